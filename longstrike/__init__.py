@@ -1,0 +1,1 @@
+"""Tables whose rows refer to rows, and strikes of rows that are done in pieces."""

@@ -1,0 +1,89 @@
+"""The worked lines of the document that use the files that are there, and the names that the interface lists."""
+
+import doctest
+import importlib
+import inspect
+import unittest
+
+LINES = '''
+>>> from longstrike.books import Book
+>>> book = Book([("house", True), ("room", True)], [("of", "room", "house", "fall")], ["bare house"])
+>>> [book.checks(), len(book), "bare house" in book, book.markable()]
+[['bare house'], 1, True, ['house', 'room']]
+>>> book.questions()
+['loose of', 'half of', 'unjust of', 'undue house', 'undue room', 'stuck']
+>>> [book + "lone" == book, book <= book + "lone", (book + "lone") - "bare house" < book]
+[False, True, False]
+>>> from longstrike.stores import Store
+>>> store = Store(book)
+>>> store.put("house", 0)
+>>> store.put("room", 4, {"of": 0})
+>>> store.strike("house", 0)
+>>> [store.pieces(), store.fits("spread of"), store.fits("fell house")]
+[['spread of', 'fell house', 'fell room'], [4], []]
+>>> store.look(0, "spread of", [4])
+>>> [store.do(0), store.rows("room"), store.mark("house", 0)]
+[[4], [(4, {'of': 0}, 'of')], 'strike']
+>>> store.look(0, "fell room", [4])
+>>> [store.do(0), store.fits("fell house"), store.wrongs(), store.is_stuck()]
+[[4], [0], [], False]
+>>> [store.rows("house")]
+[[(0, {}, 'strike')]]
+>>> from longstrike.weavings import played, shows
+>>> weaving = [("put", "house", 0, ()), ("strike", "house", 0), ("look", 1, "fell house", [0])]
+>>> weaving = weaving + [("put", "room", 0, [("of", 0)]), ("do", 1)]
+>>> [shows(played(book, weaving), "loose of"), shows(played(book, weaving[:4]), "loose of")]
+[True, False]
+'''
+
+FUNCTIONS = {
+    "longstrike.weavings": {
+        "shows": "(store, question)", "done": "(store, deed)", "played": "(book, weaving, size=1)",
+    },
+}
+
+CLASSES = {
+    ("longstrike.books", "Book"): {
+        "__init__": "(self, kinds, columns=(), checks=())", "kinds": "(self)", "columns": "(self)", "menu": "(self)",
+        "checks": "(self)", "columns_of": "(self, kind)", "markable": "(self)", "questions": "(self)",
+        "__len__": None, "__contains__": None, "__add__": None, "__sub__": None, "__or__": None, "__and__": None,
+        "__eq__": None, "__le__": None, "__lt__": None,
+    },
+    ("longstrike.stores", "Store"): {
+        "__init__": "(self, book, size=1)", "put": "(self, kind, number, owners=())",
+        "turn": "(self, kind, number, column, owner)", "strike": "(self, kind, number)", "pieces": "(self)",
+        "fits": "(self, piece)", "look": "(self, hand, piece, numbers)", "do": "(self, hand)", "stop": "(self, hand)",
+        "rows": "(self, kind)", "owner": "(self, kind, number, column)", "mark": "(self, kind, number)",
+        "lists": "(self)", "book": "(self)", "size": "(self)", "wrongs": "(self)", "loose": "(self, column)",
+        "half": "(self, column)", "is_stuck": "(self)", "copy": "(self)", "__eq__": None,
+    },
+}
+
+
+class Document(unittest.TestCase):
+
+    def test_worked_lines(self):
+        test = doctest.DocTestParser().get_doctest(LINES, {}, "DOC", None, 0)
+        told = []
+        result = doctest.DocTestRunner(verbose=False).run(test, out=told.append)
+        self.assertEqual((result.failed, result.attempted), (0, LINES.count(">>>")), "".join(told))
+
+    def test_functions_stand_in_their_files(self):
+        for module, functions in FUNCTIONS.items():
+            for name, signature in functions.items():
+                function = getattr(importlib.import_module(module), name)
+                self.assertEqual((function.__module__, function.__name__), (module, name))
+                self.assertEqual(str(inspect.signature(function)), signature)
+
+    def test_classes_stand_in_their_files_with_their_methods(self):
+        for (module, name), methods in CLASSES.items():
+            found = getattr(importlib.import_module(module), name)
+            self.assertEqual((found.__module__, found.__name__), (module, name))
+            for method, signature in methods.items():
+                self.assertIn(method, vars(found))
+                if signature is not None:
+                    self.assertEqual(str(inspect.signature(vars(found)[method])), signature)
+
+
+if __name__ == "__main__":
+    unittest.main()
