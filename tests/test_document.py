@@ -29,7 +29,24 @@ LINES = '''
 [[4], [0], [], False]
 >>> [store.rows("house")]
 [[(0, {}, 'strike')]]
+>>> from longstrike.judging import judge
+>>> word, weaving = judge(book, "loose of")
+>>> [word, len(weaving), judge(book + "again house", "loose of")[0]]
+['once', 5, 'never']
 >>> from longstrike.weavings import played, shows
+>>> [shows(played(book, weaving), "loose of"), shows(played(book, weaving[:4]), "loose of")]
+[True, False]
+>>> from longstrike.leasts import least
+>>> least(book, ["loose of"], ["lone", "again house", "turn of", "put of"])
+[['again house'], ['put of', 'turn of', 'lone']]
+>>> from longstrike.likeness import idle, parting
+>>> [idle(Book([("a", False)], [], ["bare a", "fresh"])), parting(book, book + "again house") is None]
+[['bare a', 'fresh'], False]
+>>> from longstrike.tables import is_paper, ranks, table
+>>> table(Book([("a", False)]), "undue a")
+[('new', ''), ('plain', '')]
+>>> [is_paper(book, "undue room", [("new", "")]), ranks(book + "bare room")]
+[False, [('house', 0), ('room', 1)]]
 >>> weaving = [("put", "house", 0, ()), ("strike", "house", 0), ("look", 1, "fell house", [0])]
 >>> weaving = weaving + [("put", "room", 0, [("of", 0)]), ("do", 1)]
 >>> [shows(played(book, weaving), "loose of"), shows(played(book, weaving[:4]), "loose of")]
@@ -40,6 +57,12 @@ FUNCTIONS = {
     "longstrike.weavings": {
         "shows": "(store, question)", "done": "(store, deed)", "played": "(book, weaving, size=1)",
     },
+    "longstrike.tables": {
+        "table": "(book, question)", "ranks": "(book)", "is_paper": "(book, question, paper)",
+    },
+    "longstrike.judging": {"judge": "(book, question)"},
+    "longstrike.leasts": {"least": "(book, questions, free)"},
+    "longstrike.likeness": {"parting": "(one, other)", "idle": "(book)"},
 }
 
 CLASSES = {
