@@ -77,13 +77,13 @@ class Book:
     def __or__(self, other):
         if not isinstance(other, Book):
             return NotImplemented
-        self._want_one_shape(other)
+        want_one_shape(self, other)
         return self._with_checks([*self._checks, *other._checks])
 
     def __and__(self, other):
         if not isinstance(other, Book):
             return NotImplemented
-        self._want_one_shape(other)
+        want_one_shape(self, other)
         return self._with_checks([check for check in self._checks if check in other._checks])
 
     def __eq__(self, other):
@@ -105,13 +105,15 @@ class Book:
     def _has_shape_of(self, other):
         return self._kinds == other._kinds and self._columns == other._columns
 
-    def _want_one_shape(self, other):
-        if not self._has_shape_of(other):
-            raise UnlikeBooks()
-
     def _want_check(self, check):
         if not is_word_of(check, self._menu):
             raise UnknownCheck(check)
+
+
+def want_one_shape(one, other):
+    """Raise an error for two books that are not of one shape."""
+    if one.kinds() != other.kinds() or one.columns() != other.columns():
+        raise UnlikeBooks()
 
 
 def _read_kinds(kinds):

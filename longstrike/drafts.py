@@ -1,5 +1,7 @@
 """Drafts: weavings that do in a store of size 1 what the moves of a watch do."""
 
+from longstrike.weavings import put_deed
+
 # The hands of the two lists of a watch, and the hand of the rows that help.
 HANDS = (0, 1)
 HELPING_HAND = 2
@@ -16,8 +18,7 @@ class Draft:
 
     def put(self, kind, number, owners):
         """Put a row with these owners, a dict from columns to numbers."""
-        names = [name for name in self._book.columns_of(kind) if name in owners]
-        self.deeds.append(("put", kind, number, tuple([(name, owners[name]) for name in names])))
+        self.deeds.append(put_deed(self._book, kind, number, owners))
 
     def put_helped(self, kind, number, owners, way):
         """Put a row, and the rows by which a mark can come to it on this way; return the deeds that mark it.

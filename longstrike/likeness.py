@@ -1,7 +1,7 @@
 """Books that do the same in every weaving, and weavings at whose last deed two books part."""
 
+from longstrike.books import want_one_shape
 from longstrike.drafts import weaving_of
-from longstrike.errors import UnlikeBooks
 from longstrike.walks import walk
 from longstrike.watches import ColumnWatch, KindWatch
 
@@ -29,8 +29,7 @@ class PairOfWatches:
 
 def parting(one, other):
     """Return a weaving at whose last deed two books part, or None if they do the same in every weaving."""
-    if one.kinds() != other.kinds() or one.columns() != other.columns():
-        raise UnlikeBooks()
+    want_one_shape(one, other)
     for first, second in zip(_watches(one), _watches(other)):
         if first.has != second.has:
             moves, reached = walk(PairOfWatches(first, second), "unlike")

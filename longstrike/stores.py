@@ -173,12 +173,30 @@ class Store:
         twin._wrongs = list(self._wrongs)
         return twin
 
+    def without(self, fallen):
+        """Return a copy without lists, wrongs and these rows, the keys (kind, number) of a dict.
+
+        Rows that refer to them refer to nothing in the copy, where their numbers are still used ones.
+        """
+        twin = Store(self._book, self._size)
+        for kind, is_open in self._book.kinds():
+            marks = self._marks[kind]
+            kept = [number for number in marks if (kind, number) not in fallen]
+            twin._owners[kind] = {number: self._owners_without(kind, number, fallen) for number in kept}
+            twin._marks[kind] = {number: marks[number] for number in kept}
+            twin._used[kind] = dict(self._used[kind])
+        return twin
+
     def __eq__(self, other):
         if not isinstance(other, Store) or self._book != other._book or self._size != other._size:
             return False
         if self._owners != other._owners or self._marks != other._marks:
             return False
         return self._lists == other._lists
+
+    def _owners_without(self, kind, number, fallen):
+        owners = self._owners[kind][number]
+        return {name: None if (self._columns[name][1], owners[name]) in fallen else owners[name] for name in owners}
 
     def _want_kind(self, kind):
         if not is_word_of(kind, self._marks):

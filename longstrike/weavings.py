@@ -24,7 +24,7 @@ def shows(store, question):
 
 def done(store, deed):
     """Do a deed, and return what the method of the store returns."""
-    if not _is_deed(deed):
+    if not is_deed(deed):
         raise BadDeed()
     word = deed[0]
     if word == "put":
@@ -53,9 +53,16 @@ def played(book, weaving, size=1):
     return store
 
 
-def _is_deed(deed):
+def is_deed(deed):
+    """Tell whether any object has the form of a deed."""
     if not is_row(deed) or len(deed) == 0 or not isinstance(deed[0], str):
         return False
     if LENGTHS.get(deed[0]) != len(deed):
         return False
     return deed[0] != "put" or is_list_of_owners(deed[3])
+
+
+def put_deed(book, kind, number, owners):
+    """Return the deed that puts a row; of the owners, a dict, come those by the columns of the kind, in their order."""
+    names = [name for name in book.columns_of(kind) if name in owners]
+    return ("put", kind, number, tuple([(name, owners[name]) for name in names]))

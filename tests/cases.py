@@ -6,6 +6,7 @@ import unittest
 from longstrike.books import Book
 from longstrike.errors import NoRow, UnlikeBooks
 from longstrike.stores import Store
+from longstrike.yards import Yard
 
 
 def odd_things():
@@ -17,7 +18,7 @@ def odd_things():
         None, True, False, -1, -10 ** 29,
         [], (), {}, [0], (0,), ("a",), ["a"], {"a": 0}, {0: "a"}, [[1], {}], ([],), (("of", 0),),
         "", " ", "A", "a ", " a", "a1", "strike", "abcdefghi", "put ", "put  of", "Put of", "0", "-",
-        book, store, Book([]), UnlikeBooks(), NoRow("a", 0),
+        book, store, Book([]), UnlikeBooks(), NoRow("a", 0), Yard(book),
     ]
 
 

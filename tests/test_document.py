@@ -1,11 +1,11 @@
-"""The worked lines of the document that use the files that are there, and the names that the interface lists."""
+"""The worked lines of the document, and the names that the interface lists."""
 
 import doctest
 import importlib
 import inspect
 import unittest
 
-LINES = '''
+LINES = r'''
 >>> from longstrike.books import Book
 >>> book = Book([("house", True), ("room", True)], [("of", "room", "house", "fall")], ["bare house"])
 >>> [book.checks(), len(book), "bare house" in book, book.markable()]
@@ -27,8 +27,9 @@ LINES = '''
 >>> store.look(0, "fell room", [4])
 >>> [store.do(0), store.fits("fell house"), store.wrongs(), store.is_stuck()]
 [[4], [0], [], False]
->>> [store.rows("house")]
-[[(0, {}, 'strike')]]
+>>> from longstrike.resting import rest, whole
+>>> [rest(store) == whole(store), whole(store).rows("house"), store.rows("house")]
+[True, [], [(0, {}, 'strike')]]
 >>> from longstrike.judging import judge
 >>> word, weaving = judge(book, "loose of")
 >>> [word, len(weaving), judge(book + "again house", "loose of")[0]]
@@ -47,10 +48,21 @@ LINES = '''
 [('new', ''), ('plain', '')]
 >>> [is_paper(book, "undue room", [("new", "")]), ranks(book + "bare room")]
 [False, [('house', 0), ('room', 1)]]
->>> weaving = [("put", "house", 0, ()), ("strike", "house", 0), ("look", 1, "fell house", [0])]
->>> weaving = weaving + [("put", "room", 0, [("of", 0)]), ("do", 1)]
->>> [shows(played(book, weaving), "loose of"), shows(played(book, weaving[:4]), "loose of")]
-[True, False]
+>>> from longstrike.book_texts import write_book
+>>> write_book(book).split("\n")
+['open kind house', 'open kind room', 'column of from room to house fall', 'check bare house']
+>>> from longstrike.weaving_texts import write_weaving
+>>> write_weaving([("put", "room", 4, (("of", 0),)), ("look", 1, "fell house", (0, 2))]).split("\n")
+['put room 4 of=0', 'look 1 fell house 0 2']
+>>> from longstrike.yards import Yard
+>>> yard = Yard(book)
+>>> yard.deed(("put", "house", 0, ()))
+>>> yard.deed(("strike", "house", 0))
+>>> [len(yard), yard.since("loose of"), yard.under(book + "fresh"), yard.store().mark("house", 0)]
+[2, None, None, 'strike']
+>>> yard.undo()
+>>> yard.weaving()
+[('put', 'house', 0, ())]
 '''
 
 FUNCTIONS = {
@@ -63,6 +75,9 @@ FUNCTIONS = {
     "longstrike.judging": {"judge": "(book, question)"},
     "longstrike.leasts": {"least": "(book, questions, free)"},
     "longstrike.likeness": {"parting": "(one, other)", "idle": "(book)"},
+    "longstrike.resting": {"whole": "(store)", "rest": "(store)"},
+    "longstrike.book_texts": {"write_book": "(book)", "read_book": "(text)"},
+    "longstrike.weaving_texts": {"write_weaving": "(weaving)", "read_weaving": "(text)"},
 }
 
 CLASSES = {
@@ -79,6 +94,12 @@ CLASSES = {
         "rows": "(self, kind)", "owner": "(self, kind, number, column)", "mark": "(self, kind, number)",
         "lists": "(self)", "book": "(self)", "size": "(self)", "wrongs": "(self)", "loose": "(self, column)",
         "half": "(self, column)", "is_stuck": "(self)", "copy": "(self)", "__eq__": None,
+    },
+    ("longstrike.yards", "Yard"): {
+        "__init__": "(self, book, size=1)", "deed": "(self, deed)", "__iadd__": None, "undo": "(self)",
+        "redo": "(self)", "weaving": "(self)", "__len__": None, "store": "(self)", "book": "(self)",
+        "since": "(self, question)", "under": "(self, book)", "rebooked": "(self, book)", "trial": "(self, work)",
+        "copy": "(self)", "__eq__": None,
     },
 }
 

@@ -104,14 +104,34 @@ class Language(unittest.TestCase):
 
     def test_statements(self):
         """L6, L7, L19: only errors of the package are caught"""
+        own = bound_in("errors.py")
         for name, node in nodes(NODES):
             self.assertIsInstance(node, ast.Try, (name, node))
             for handler in node.handlers:
-                self.assertEqual(handler.type.id, "StrikeError")
+                self.assertIn(handler.type.id, own)
+            for kept in node.finalbody:
+                self.assertIsInstance(kept, ast.Assign)
+                self.assertIsInstance(kept.value, ast.Name)
         for name, node in nodes(ast.Constant):
             self.assertNotIsInstance(node.value, (float, complex))
             if isinstance(node.value, str):
                 self.assertNotIn("%", node.value)
+
+    def test_one_file_does_not_import_from_another_in_a_ring(self):
+        """L16"""
+        imported = {name: set() for name in files()}
+        for name, node in nodes(ast.ImportFrom):
+            if node.module not in LIBRARY:
+                imported[name].add(node.module.split(".")[1] + ".py")
+        while imported:
+            free = [name for name, others in imported.items() if not others & set(imported)]
+            self.assertNotEqual(free, [], imported)
+            for name in free:
+                del imported[name]
+
+    def test_nothing_is_added_in_place(self):
+        """L5: a class has an __iadd__"""
+        self.assertEqual(nodes(ast.AugAssign), [])
 
     def test_builtins(self):
         """L8, L15"""
